@@ -1,0 +1,1 @@
+"""Onebend: rows of numbers that bend one way."""
