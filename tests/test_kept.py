@@ -4,12 +4,18 @@ import copy
 import unittest
 
 from onebend.below import greatest_below, touching_places
+from onebend.bynumber import nth_within, number_of
+from onebend.counted import how_many_within, is_there_one
 from onebend.errors import BendError
+from onebend.fewest import fewest_bends
 from onebend.rows import (
     are_bent_fractions, bends_of, bends_one_way, first_wrong, how_far, is_row, steps_of,
 )
 
-from samples import BENT_FRACTIONS, ROWS, UNBENT_FRACTIONS, no_rows
+from samples import (
+    BENT_FRACTIONS, NARROW_BOUNDS, ROWS, UNBENT_FRACTIONS, WIDE_BOUNDS, WIDE_BOUNDS_WITH_NONE,
+    bent_rows_within, no_rows,
+)
 
 TELL_OF_A_ROW = [
     is_row, steps_of, bends_of, bends_one_way, first_wrong, are_bent_fractions,
@@ -24,6 +30,15 @@ WRONG_LISTS = [
     [], [0] * 13, [3, True, 1], [2, "x", [1, [2]]], [[3, 2, 1]], [None, (1, 2)], [{"b": 1, "a": [2]}],
     [(2, 4), (1, 2)], [[1, 2]], [(1, 1), (1, 0)],
 ]
+
+WRONG_BOUNDS = [
+    [], [(0, 1)] * 11, [(1, 0)], [(0, 13), (2, 1)], [(0, 1), (True, 1)], [[0, 1], [2, 3]], [([0], 1)],
+    [(0, 1), {"b": 1, "a": [2]}], {0: (0, 1)}, ([(0, 1)], [0, 1]), "0 1", None,
+]
+
+# What is handed in beside bounds: some are answered, some refused.
+NUMBERS_AND_OTHERS = [0, 3, -1, 10 ** 12, True, "0", None, [0, [1]], {"a": [1]}]
+ROWS_AND_OTHERS = [[0, 0, 0], [5], [2, 1, 0, 1, 2], [9, 3, True], [[3, 2, 1]], (1, [2]), {"a": [1]}, None]
 
 
 def asked(tell, *handed):
@@ -42,6 +57,13 @@ def many_questions():
         for fractions in BENT_FRACTIONS + UNBENT_FRACTIONS + WRONG_LISTS:
             for numbers in [[4], [9, 2, 5], list(range(11, -1, -1))] + WRONG_LISTS:
                 yield how_far, [copy.deepcopy(part) for part in (measure, numbers, fractions)]
+    for bounds in NARROW_BOUNDS + WIDE_BOUNDS[:3] + WIDE_BOUNDS_WITH_NONE[:1] + WRONG_BOUNDS:
+        for tell in [how_many_within, is_there_one, fewest_bends]:
+            yield tell, [copy.deepcopy(bounds)]
+        for number in NUMBERS_AND_OTHERS:
+            yield nth_within, [copy.deepcopy(bounds), copy.deepcopy(number)]
+        for numbers in ROWS_AND_OTHERS:
+            yield number_of, [copy.deepcopy(bounds), copy.deepcopy(numbers)]
 
 
 class HandedIn(unittest.TestCase):
@@ -117,6 +139,71 @@ class Told(unittest.TestCase):
                 if len(numbers) > 1:
                     self.assertIs(is_row(steps_of(numbers)), True)
                     self.assertEqual(steps_of(steps_of(numbers)), bends_of(numbers))
+
+
+class WithinBounds(unittest.TestCase):
+
+    def told_rows(self, bounds):
+        """The rows that are told of bounds with a row within."""
+        last = how_many_within(bounds) - 1
+        return [nth_within(bounds, 0), nth_within(bounds, last // 2), nth_within(bounds, last), fewest_bends(bounds)[1]]
+
+    def bounds_with_rows(self):
+        return [bounds for bounds in NARROW_BOUNDS + WIDE_BOUNDS if is_there_one(bounds)]
+
+    def test_a_told_row_is_the_askers_own(self):
+        for bounds in self.bounds_with_rows():
+            many, first = how_many_within(bounds), self.told_rows(bounds)
+            due = copy.deepcopy(first)
+            for numbers in first:
+                numbers[0] = "spoilt"
+                numbers.append("spoilt")
+            with self.subTest(bounds=bounds):
+                second = self.told_rows(bounds)
+                self.assertEqual(second, due)
+                for numbers in second:
+                    numbers.clear()
+                self.assertEqual(self.told_rows(bounds), due)
+                self.assertEqual(how_many_within(bounds), many)
+                self.assertEqual([number_of(bounds, numbers) for numbers in due[:3]], [0, (many - 1) // 2, many - 1])
+
+    def test_no_two_told_are_one(self):
+        for bounds in self.bounds_with_rows():
+            told = self.told_rows(bounds) + self.told_rows(bounds)
+            with self.subTest(bounds=bounds):
+                self.assertEqual(len({id(numbers) for numbers in told}), len(told))
+
+    def test_what_is_handed_in_is_not_kept(self):
+        for tell in [how_many_within, is_there_one, fewest_bends, lambda bounds: nth_within(bounds, 1)]:
+            bounds = [(0, 1), (0, 1), (0, 1)]
+            tell(bounds)
+            bounds[1:] = [(3, 4), (6, 9), (10, 14)]
+            self.assertEqual(tell(bounds), tell([(0, 1), (3, 4), (6, 9), (10, 14)]))
+        bounds, numbers = [(0, 3), (0, 3)], [0, 3]
+        self.assertEqual(number_of(bounds, numbers), 3)
+        numbers[0], bounds[1] = 2, (3, 4)
+        self.assertEqual(number_of(bounds, numbers), 4)
+
+    def test_a_refusal_changes_nothing(self):
+        bounds = [(0, 4)] * 5
+        rows = bent_rows_within(bounds)
+        for wrong in WRONG_BOUNDS:
+            for tell in [how_many_within, is_there_one, fewest_bends]:
+                self.assertRaises(BendError, tell, wrong)
+            self.assertRaises(BendError, nth_within, bounds, len(rows))
+            self.assertRaises(BendError, number_of, bounds, [0, 1, 0, 1, 0])
+            self.assertEqual(how_many_within(bounds), len(rows))
+            self.assertEqual(nth_within(bounds, 7), rows[7])
+            self.assertEqual(number_of(bounds, rows[7]), 7)
+            self.assertEqual(fewest_bends(bounds), (0, [0] * 5))
+
+    def test_what_is_told_may_be_handed_in(self):
+        for bounds in self.bounds_with_rows():
+            for numbers in self.told_rows(bounds):
+                with self.subTest(bounds=bounds, numbers=numbers):
+                    self.assertIs(bends_one_way(numbers), True)
+                    self.assertEqual(nth_within(bounds, number_of(bounds, numbers)), numbers)
+                    self.assertEqual(how_many_within([(number, number) for number in numbers]), 1)
 
 
 if __name__ == "__main__":
