@@ -10,9 +10,15 @@ def line_at(numbers, first, last, place):
     return (top, last - first)
 
 
-def is_under_line(numbers, first, last, place):
+def above_line(numbers, first, last, place):
+    """What the number at a place is above the line, perhaps below 0: top and bottom."""
     top, bottom = line_at(numbers, first, last, place)
-    return numbers[place] * bottom < top
+    return (numbers[place] * bottom - top, bottom)
+
+
+def is_under_line(numbers, first, last, place):
+    top, bottom = above_line(numbers, first, last, place)
+    return top < 0
 
 
 def corner_places(numbers):

@@ -29,6 +29,16 @@ def in_least_numbers(top, bottom):
     return (top // divisor, bottom // divisor)
 
 
+def is_less(one, other):
+    """Whether one fraction is less than the other."""
+    return one[0] * other[1] < other[0] * one[1]
+
+
+def add(one, other):
+    """The sum of two fractions."""
+    return in_least_numbers(one[0] * other[1] + other[0] * one[1], one[1] * other[1])
+
+
 def shared_bottom(fractions):
     """The least number that every bottom divides."""
     shared = 1
@@ -40,3 +50,46 @@ def shared_bottom(fractions):
 def tops_over(fractions, shared):
     """The tops of the fractions when all are written over one shared bottom."""
     return [top * (shared // bottom) for top, bottom in fractions]
+
+
+class Table:
+    """Amounts that hang on one another, in lines of whole numbers over one bottom.
+
+    The amounts are known by names, some beside the lines and some atop the columns. A line says:
+    its own amount, and those of all columns each times its number in the line, add up to the last
+    number of the line. So, where all amounts atop are 0, that number is the line's own amount.
+    """
+
+    def __init__(self, lines, beside, atop):
+        self.lines = [list(line) for line in lines]
+        self.beside = list(beside)
+        self.atop = list(atop)
+        self.bottom = 1
+
+    def exchange(self, at, column):
+        """Lets the amounts of a line and a column change places; their number is above 0."""
+        chosen = self.lines[at]
+        lines = []
+        for place, line in enumerate(self.lines):
+            if place == at:
+                changed = list(line)
+                changed[column] = self.bottom
+            else:
+                changed = self.without(line, chosen, column)
+                changed[column] = -line[column]
+            lines.append(changed)
+        self.lines = lines
+        self.bottom = chosen[column]
+        self.beside[at], self.atop[column] = self.atop[column], self.beside[at]
+
+    def without(self, line, chosen, column):
+        """The line with the column's amount put into it as the chosen line tells it."""
+        # Each number is a determinant of numbers from the first lines, so the bottom divides it.
+        return [
+            (part * chosen[column] - line[column] * other) // self.bottom
+            for part, other in zip(line, chosen)
+        ]
+
+    def amounts(self):
+        """The amounts beside the lines, by their names, each times the bottom."""
+        return {name: line[-1] for name, line in zip(self.beside, self.lines)}

@@ -28,6 +28,13 @@ def check_row_of_fractions(fractions):
         raise NoNumbers("a row of fractions is a list of one to twelve fractions")
 
 
+def are_rising_places(things, numbers):
+    """Whether the things in a list or tuple are places of the row, each above the one ahead."""
+    if not all(is_whole(thing) and 0 <= thing < len(numbers) for thing in things):
+        return False
+    return all(step > 0 for step in differences(things))
+
+
 def differences(numbers):
     """What each number but the first is above the one ahead of it."""
     return [number - ahead for ahead, number in zip(numbers, numbers[1:])]

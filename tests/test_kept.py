@@ -5,12 +5,15 @@ import unittest
 
 from onebend.below import greatest_below, touching_places
 from onebend.bynumber import nth_within, number_of
+from onebend.changed import bent_with, can_stay, fewest_changed
 from onebend.counted import how_many_within, is_there_one
 from onebend.errors import BendError
 from onebend.fewest import fewest_bends
+from onebend.greatest import least_greatest, nearest_by_greatest, three_that_show, what_three_show
 from onebend.rows import (
     are_bent_fractions, bends_of, bends_one_way, first_wrong, how_far, is_row, steps_of,
 )
+from onebend.sums import nearest_by_sum, what_prices_show
 
 from samples import (
     BENT_FRACTIONS, NARROW_BOUNDS, ROWS, UNBENT_FRACTIONS, WIDE_BOUNDS, WIDE_BOUNDS_WITH_NONE,
@@ -19,9 +22,10 @@ from samples import (
 
 TELL_OF_A_ROW = [
     is_row, steps_of, bends_of, bends_one_way, first_wrong, are_bent_fractions,
-    greatest_below, touching_places,
+    greatest_below, touching_places, least_greatest, nearest_by_greatest, three_that_show, fewest_changed,
+    nearest_by_sum,
 ]
-TELL_LISTS = [steps_of, bends_of, greatest_below, touching_places]
+TELL_LISTS = [steps_of, bends_of, greatest_below, touching_places, nearest_by_greatest]
 
 # Only these are compared with a copy of themselves.
 COPIED = (list, tuple, dict, set, str, bytes, int)
@@ -39,6 +43,16 @@ WRONG_BOUNDS = [
 # What is handed in beside bounds: some are answered, some refused.
 NUMBERS_AND_OTHERS = [0, 3, -1, 10 ** 12, True, "0", None, [0, [1]], {"a": [1]}]
 ROWS_AND_OTHERS = [[0, 0, 0], [5], [2, 1, 0, 1, 2], [9, 3, True], [[3, 2, 1]], (1, [2]), {"a": [1]}, None]
+
+# What is handed in beside a row: places and prices, right and wrong ones.
+PLACES_AND_OTHERS = [
+    (0, 1, 2), (2, 1, 0), (0, 1), (0, [1], 2), [], [0], [0, 2], [0, 1, 2], [2, 1], [0, [1]], [True], {"a": [1]}, None,
+]
+PRICES_AND_OTHERS = [
+    [(-1, 2), (1, 1), (-1, 2)], [(1, 2), (-1, 1), (1, 2)], [(0, 1)], [(0, 1)] * 12, [(2, 1), (-2, 1)],
+    [(3, 6), (0, 1), (1, 1)], [[0, 1]], [(0, [1])], ((0, 1),), {"a": [1]}, None,
+]
+ROWS_BESIDE = [[4], [0, 3, 1], [3, 1, 2, 9], list(range(12)), [0] * 13, [1, True], (1, [2]), None]
 
 
 def asked(tell, *handed):
@@ -64,6 +78,13 @@ def many_questions():
             yield nth_within, [copy.deepcopy(bounds), copy.deepcopy(number)]
         for numbers in ROWS_AND_OTHERS:
             yield number_of, [copy.deepcopy(bounds), copy.deepcopy(numbers)]
+    for numbers in ROWS_BESIDE:
+        for tell, others in [
+            (what_three_show, PLACES_AND_OTHERS), (can_stay, PLACES_AND_OTHERS), (bent_with, PLACES_AND_OTHERS),
+            (what_prices_show, PRICES_AND_OTHERS),
+        ]:
+            for other in others:
+                yield tell, [copy.deepcopy(numbers), copy.deepcopy(other)]
 
 
 class HandedIn(unittest.TestCase):
@@ -102,6 +123,22 @@ class HandedIn(unittest.TestCase):
         numbers[0], fractions[1] = 7, (2, 1)
         self.assertEqual(how_far("sum", numbers, fractions), (13, 2))
 
+    def test_what_is_handed_in_beside_a_row_is_not_kept(self):
+        numbers, places = [0, 3, 1, 5], [0, 2]
+        self.assertEqual(bent_with(numbers, places), [(0, 1), (1, 2), (1, 1), (3, 2)])
+        self.assertIs(can_stay(numbers, places), True)
+        places.insert(1, 1)
+        self.assertIs(can_stay(numbers, places), False)
+        numbers[1] = -3
+        self.assertIs(can_stay(numbers, places), True)
+        self.assertEqual(bent_with(numbers, places)[1], (-3, 1))
+        numbers, prices = [0, 3, 1], [(-1, 2), (1, 1), (-1, 2)]
+        self.assertEqual(what_prices_show(numbers, prices), (5, 2))
+        numbers[1] = 4
+        self.assertEqual(what_prices_show(numbers, prices), (7, 2))
+        prices[1] = (1, 2)
+        self.assertIs(what_prices_show(numbers, prices), None)
+
 
 class Told(unittest.TestCase):
 
@@ -139,6 +176,84 @@ class Told(unittest.TestCase):
                 if len(numbers) > 1:
                     self.assertIs(is_row(steps_of(numbers)), True)
                     self.assertEqual(steps_of(steps_of(numbers)), bends_of(numbers))
+
+
+def told_lists(numbers):
+    """Every list that is told of a row within a tuple, or of a row with places."""
+    told = [fewest_changed(numbers)[1]]
+    told += [bent_with(numbers, []), bent_with(numbers, [0]), bent_with(numbers, list(told[0]))]
+    if len(numbers) <= 8:
+        told += nearest_by_sum(numbers)[1:]
+    return told
+
+
+class Nearest(unittest.TestCase):
+
+    def test_a_told_list_is_the_askers_own(self):
+        for numbers in ROWS:
+            first = told_lists(numbers)
+            due = copy.deepcopy(first)
+            for told in first:
+                told[0] = "spoilt"
+                told.append("spoilt")
+            with self.subTest(numbers=numbers):
+                second = told_lists(numbers)
+                self.assertEqual(second, due)
+                for told in second:
+                    told.clear()
+                self.assertEqual(told_lists(numbers), due)
+
+    def test_no_two_told_are_one(self):
+        for numbers in ROWS:
+            told = told_lists(numbers) + told_lists(numbers)
+            with self.subTest(numbers=numbers):
+                self.assertEqual(len({id(part) for part in told}), len(told))
+
+    def test_places_that_are_handed_in_are_not_told_back(self):
+        for places in [[0], [0, 1], [0, 1, 2]]:
+            self.assertIsNot(bent_with([4, 1, 0], places), places)
+
+    def test_a_refusal_changes_nothing(self):
+        numbers, tells = [0, 3, 1, 3, 5, 10], [least_greatest, three_that_show, fewest_changed, nearest_by_sum]
+        due = [tell(numbers) for tell in tells]
+        for wrong in WRONG_LISTS:
+            for tell in tells + [nearest_by_greatest]:
+                self.assertRaises(BendError, tell, wrong)
+            self.assertRaises(BendError, what_three_show, numbers, wrong)
+            self.assertRaises(BendError, bent_with, numbers, [0, 1, 2])
+            self.assertRaises(BendError, can_stay, numbers, [9])
+            self.assertRaises(BendError, what_prices_show, numbers, wrong)
+            self.assertRaises(BendError, nearest_by_sum, [0] * 9)
+            self.assertEqual([tell(numbers) for tell in tells], due)
+
+    def test_what_is_told_may_be_handed_in(self):
+        for numbers in ROWS:
+            places = three_that_show(numbers)
+            many, staying = fewest_changed(numbers)
+            with self.subTest(numbers=numbers):
+                if places is not None:
+                    self.assertEqual(what_three_show(numbers, places), least_greatest(numbers))
+                    self.assertIs(can_stay(numbers, list(places)), False)
+                self.assertEqual(how_far("greatest", numbers, nearest_by_greatest(numbers)), least_greatest(numbers))
+                self.assertIs(can_stay(numbers, staying), True)
+                self.assertIs(is_row(staying), True)
+                self.assertEqual(how_far("changed", numbers, bent_with(numbers, staying)), (many, 1))
+                if len(numbers) <= 8:
+                    least, near, prices = nearest_by_sum(numbers)
+                    self.assertEqual(how_far("sum", numbers, near), least)
+                    self.assertEqual(what_prices_show(numbers, prices), least)
+
+    def test_what_is_told_may_be_handed_in_as_a_row(self):
+        for numbers in ROWS:
+            if 1 < len(numbers) <= 8:
+                steps = steps_of(numbers)
+                for row in [steps, [7 * step + 10 ** 14 for step in steps]]:
+                    with self.subTest(numbers=numbers, row=row):
+                        least, near, prices = nearest_by_sum(row)
+                        self.assertEqual(how_far("sum", row, near), least)
+                        self.assertEqual(what_prices_show(row, prices), least)
+                        self.assertEqual(how_far("greatest", row, nearest_by_greatest(row)), least_greatest(row))
+                        self.assertIs(can_stay(row, fewest_changed(row)[1]), True)
 
 
 class WithinBounds(unittest.TestCase):
