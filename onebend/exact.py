@@ -69,15 +69,9 @@ class Table:
     def exchange(self, at, column):
         """Lets the amounts of a line and a column change places; their number is above 0."""
         chosen = self.lines[at]
-        lines = []
-        for place, line in enumerate(self.lines):
-            if place == at:
-                changed = list(line)
-                changed[column] = self.bottom
-            else:
-                changed = self.without(line, chosen, column)
-                changed[column] = -line[column]
-            lines.append(changed)
+        lines = [self.without(line, chosen, column) for line in self.lines]
+        lines[at] = list(chosen)
+        lines[at][column] = self.bottom
         self.lines = lines
         self.bottom = chosen[column]
         self.beside[at], self.atop[column] = self.atop[column], self.beside[at]
@@ -85,10 +79,12 @@ class Table:
     def without(self, line, chosen, column):
         """The line with the column's amount put into it as the chosen line tells it."""
         # Each number is a determinant of numbers from the first lines, so the bottom divides it.
-        return [
+        told = [
             (part * chosen[column] - line[column] * other) // self.bottom
             for part, other in zip(line, chosen)
         ]
+        told[column] = -line[column]
+        return told
 
     def amounts(self):
         """The amounts beside the lines, by their names, each times the bottom."""

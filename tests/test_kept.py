@@ -13,7 +13,9 @@ from onebend.greatest import least_greatest, nearest_by_greatest, three_that_sho
 from onebend.rows import (
     are_bent_fractions, bends_of, bends_one_way, first_wrong, how_far, is_row, steps_of,
 )
+from onebend.squares import is_nearest_by_squares, nearest_by_squares
 from onebend.sums import nearest_by_sum, what_prices_show
+from onebend.texts import read_fractions, read_row, show_fractions, show_row
 
 from samples import (
     BENT_FRACTIONS, NARROW_BOUNDS, ROWS, UNBENT_FRACTIONS, WIDE_BOUNDS, WIDE_BOUNDS_WITH_NONE,
@@ -23,7 +25,7 @@ from samples import (
 TELL_OF_A_ROW = [
     is_row, steps_of, bends_of, bends_one_way, first_wrong, are_bent_fractions,
     greatest_below, touching_places, least_greatest, nearest_by_greatest, three_that_show, fewest_changed,
-    nearest_by_sum,
+    nearest_by_sum, nearest_by_squares, show_row,
 ]
 TELL_LISTS = [steps_of, bends_of, greatest_below, touching_places, nearest_by_greatest]
 
@@ -82,9 +84,15 @@ def many_questions():
         for tell, others in [
             (what_three_show, PLACES_AND_OTHERS), (can_stay, PLACES_AND_OTHERS), (bent_with, PLACES_AND_OTHERS),
             (what_prices_show, PRICES_AND_OTHERS),
+            (is_nearest_by_squares, PRICES_AND_OTHERS + BENT_FRACTIONS + UNBENT_FRACTIONS),
         ]:
             for other in others:
                 yield tell, [copy.deepcopy(numbers), copy.deepcopy(other)]
+    for fractions in BENT_FRACTIONS + UNBENT_FRACTIONS:
+        yield show_fractions, [copy.deepcopy(fractions)]
+    for text in ["0", "1 2 3", "1/2 -3", "", "1  2", "2/4", " 1", ["1", "2"], {"1": ["2"]}, None]:
+        for tell in [read_row, read_fractions]:
+            yield tell, [copy.deepcopy(text)]
 
 
 class HandedIn(unittest.TestCase):
@@ -184,6 +192,8 @@ def told_lists(numbers):
     told += [bent_with(numbers, []), bent_with(numbers, [0]), bent_with(numbers, list(told[0]))]
     if len(numbers) <= 8:
         told += nearest_by_sum(numbers)[1:]
+        told.append(nearest_by_squares(numbers)[1])
+    told += [read_row(show_row(numbers)), read_fractions(show_fractions(told[1])), read_fractions(show_row(numbers))]
     return told
 
 
@@ -214,7 +224,9 @@ class Nearest(unittest.TestCase):
             self.assertIsNot(bent_with([4, 1, 0], places), places)
 
     def test_a_refusal_changes_nothing(self):
-        numbers, tells = [0, 3, 1, 3, 5, 10], [least_greatest, three_that_show, fewest_changed, nearest_by_sum]
+        numbers, tells = [0, 3, 1, 3, 5, 10], [
+            least_greatest, three_that_show, fewest_changed, nearest_by_sum, nearest_by_squares, show_row,
+        ]
         due = [tell(numbers) for tell in tells]
         for wrong in WRONG_LISTS:
             for tell in tells + [nearest_by_greatest]:
@@ -224,6 +236,9 @@ class Nearest(unittest.TestCase):
             self.assertRaises(BendError, can_stay, numbers, [9])
             self.assertRaises(BendError, what_prices_show, numbers, wrong)
             self.assertRaises(BendError, nearest_by_sum, [0] * 9)
+            self.assertRaises(BendError, nearest_by_squares, [0] * 9)
+            self.assertRaises(BendError, read_row, wrong)
+            self.assertRaises(BendError, read_fractions, wrong)
             self.assertEqual([tell(numbers) for tell in tells], due)
 
     def test_what_is_told_may_be_handed_in(self):
@@ -242,6 +257,9 @@ class Nearest(unittest.TestCase):
                     least, near, prices = nearest_by_sum(numbers)
                     self.assertEqual(how_far("sum", numbers, near), least)
                     self.assertEqual(what_prices_show(numbers, prices), least)
+                    least, near = nearest_by_squares(numbers)
+                    self.assertEqual(how_far("squares", numbers, near), least)
+                    self.assertIs(is_nearest_by_squares(numbers, near), True)
 
     def test_what_is_told_may_be_handed_in_as_a_row(self):
         for numbers in ROWS:
@@ -252,6 +270,7 @@ class Nearest(unittest.TestCase):
                         least, near, prices = nearest_by_sum(row)
                         self.assertEqual(how_far("sum", row, near), least)
                         self.assertEqual(what_prices_show(row, prices), least)
+                        self.assertIs(is_nearest_by_squares(row, nearest_by_squares(row)[1]), True)
                         self.assertEqual(how_far("greatest", row, nearest_by_greatest(row)), least_greatest(row))
                         self.assertIs(can_stay(row, fewest_changed(row)[1]), True)
 

@@ -20,6 +20,17 @@ BARRED_WORDS = set("""
     namedtuple NamedTuple TypedDict TYPE_CHECKING abstractmethod
 """.split())
 
+METHODS_OF_VALUES = set("""
+    append clear copy count endswith extend find get index insert isalnum isalpha isdigit islower isspace
+    isupper items join keys ljust lower lstrip partition pop remove replace reverse rfind rjust rpartition
+    rsplit rstrip setdefault split splitlines startswith strip update upper values zfill bit_length
+    title capitalize swapcase casefold center expandtabs removeprefix removesuffix rindex isascii isdecimal
+    isnumeric istitle isidentifier isprintable
+""".split())
+
+# What numbers, texts, lists and the like have of their own.
+NAMES_OF_VALUES = {name for kind in (str, int, list, dict, set, bytes, tuple) for name in dir(kind)}
+
 BARRED_NODES = (
     ast.Global, ast.AsyncFunctionDef, ast.AsyncFor, ast.AsyncWith, ast.Await, ast.Import,
     ast.Div, ast.MatMult,
@@ -54,6 +65,19 @@ def local_names(tree):
                     yield node.arg
                 elif isinstance(node, ast.Name) and isinstance(node.ctx, ast.Store):
                     yield node.id
+
+
+def names_of_methods(tree):
+    for node in ast.walk(tree):
+        if isinstance(node, ast.ClassDef):
+            yield from [part.name for part in node.body if isinstance(part, ast.FunctionDef)]
+
+
+def names_of_attributes(tree):
+    """Every attribute that is given a value."""
+    for node in ast.walk(tree):
+        if isinstance(node, ast.Attribute) and isinstance(node.ctx, ast.Store):
+            yield node.attr
 
 
 class Language(unittest.TestCase):
@@ -123,6 +147,27 @@ class Language(unittest.TestCase):
                 for alias in node.names
             }
             self.assertEqual(set(local_names(tree)) & taken, set(), name)
+
+    def test_methods_and_attributes(self):
+        methods = [name for tree in self.trees.values() for name in names_of_methods(tree)]
+        attributes = [name for tree in self.trees.values() for name in names_of_attributes(tree)]
+        self.assertEqual(set(methods) & set(attributes), set())
+        own = {name for name in methods if not name.startswith("__")}
+        self.assertEqual((own | set(attributes)) & NAMES_OF_VALUES, set())
+        for name, tree in self.trees.items():
+            for node in ast.walk(tree):
+                if isinstance(node, ast.Attribute):
+                    self.assertIn(node.attr, METHODS_OF_VALUES | set(methods) | set(attributes), name)
+
+    def test_what_is_iterated_at_once_is_not_kept(self):
+        for name, tree in self.trees.items():
+            for node in ast.walk(tree):
+                if isinstance(node, (ast.Assign, ast.Return)) and isinstance(node.value, ast.Call):
+                    called = node.value.func
+                    word = called.id if isinstance(called, ast.Name) else called.attr
+                    self.assertNotIn(
+                        word, ["zip", "enumerate", "reversed", "range", "items", "keys", "values", "set"], name
+                    )
 
     def test_builtins(self):
         for name, tree in self.trees.items():
